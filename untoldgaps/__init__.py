@@ -1,0 +1,1 @@
+"""Balls on a line that clash when nobody knows how far apart they are."""
