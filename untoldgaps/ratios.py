@@ -34,6 +34,16 @@ def ratio_of(thing):
     return (thing, 1)
 
 
+def told_or_same(thing):
+    """Returns a ratio in lowest terms, and anything else as it is."""
+    return ratio_of(thing) if is_ratio(thing) else thing
+
+
+def is_just(thing, told):
+    """Tells whether anything is this very ratio in lowest terms; a boolean in it stands for no number."""
+    return is_ratio(thing) and thing == told
+
+
 def plus(one, other):
     """Returns the sum of two ratios."""
     top, bottom = ratio_of(one)

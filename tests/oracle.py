@@ -1,0 +1,102 @@
+"""The rules of the document told a second time, slowly and with Fractions, to compare with."""
+
+from fractions import Fraction
+
+
+def fractions(ratios):
+    return [Fraction(*ratio) if isinstance(ratio, tuple) else Fraction(ratio) for ratio in ratios]
+
+
+def clash(weights, speeds, pair):
+    """The speeds behind a clash of a pair [2.1]."""
+    told = list(speeds)
+    if pair == -1:
+        told[0] = -speeds[0]
+        return told
+    a, b = weights[pair], weights[pair + 1]
+    u, v = speeds[pair], speeds[pair + 1]
+    told[pair] = ((a - b) * u + 2 * b * v) / Fraction(a + b)
+    told[pair + 1] = ((b - a) * v + 2 * a * u) / Fraction(a + b)
+    return told
+
+
+def closing(speeds, pair):
+    return -speeds[0] if pair == -1 else speeds[pair] - speeds[pair + 1]
+
+
+class World:
+    """A row of balls that moves from one clash to the next one, places and all."""
+
+    def __init__(self, row, gaps):
+        self.weights = list(row.weights)
+        self.pairs = list(row.pairs)
+        self.speeds = fractions(row.speeds)
+        self.moment = Fraction(0)
+        place = Fraction(0)
+        self.places = [] if row.wall else [place]
+        for gap in fractions(gaps):
+            place += gap
+            self.places.append(place)
+
+    def gap(self, pair):
+        if pair == -1:
+            return self.places[0]
+        return self.places[pair + 1] - self.places[pair]
+
+    def gaps(self):
+        return [self.gap(pair) for pair in self.pairs]
+
+    def times(self):
+        """The time from now on to the clash of each pair that comes."""
+        return {
+            pair: self.gap(pair) / closing(self.speeds, pair)
+            for pair in self.pairs
+            if closing(self.speeds, pair) > 0
+        }
+
+    def wait(self, time):
+        self.places = [place + speed * time for place, speed in zip(self.places, self.speeds)]
+        self.moment += time
+
+    def next_clashes(self):
+        """What clashes next: (moment, pairs, whether this is a border), or None."""
+        times = self.times()
+        if not times:
+            return None
+        least = min(times.values())
+        pairs = sorted(pair for pair, time in times.items() if time == least)
+        border = [pair for pair in pairs if pair - 1 in pairs or pair + 1 in pairs]
+        return (self.moment + least, border or pairs, bool(border))
+
+    def strike(self, pair):
+        self.wait(self.times()[pair])
+        self.speeds = clash(self.weights, self.speeds, pair)
+
+
+def whole_run(row, gaps, most=2000):
+    """All clashes [(moment, pair, speeds)], the border (moment, pairs) or None, and the world at the last clash."""
+    world = World(row, gaps)
+    clashes = []
+    while len(clashes) < most:
+        told = world.next_clashes()
+        if told is None:
+            return clashes, None, world
+        moment, pairs, is_border = told
+        if is_border:
+            return clashes, (moment, pairs), world
+        world.strike(pairs[0])
+        clashes.append((moment, pairs[0], list(world.speeds)))
+    raise AssertionError("too long for a test")
+
+
+def world_at(row, gaps, moment):
+    """The world at a moment, behind all clashes of this moment; None if a border lies at or ahead of it."""
+    world = World(row, gaps)
+    while True:
+        told = world.next_clashes()
+        if told is None or told[0] > moment:
+            world.wait(moment - world.moment)
+            return world
+        if told[2]:
+            return None
+        world.strike(told[1][0])
