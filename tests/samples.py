@@ -1,6 +1,13 @@
 """Rows and gaps for tests, drawn by chance from a number."""
 
+from random import Random
+
 from untoldgaps.rows import Row
+from untoldgaps.strict import Strict
+
+# Rows that have not two gaps.
+OTHER_WIDTHS = (Row([1, 1], [1, 0]), Row([1], [-1], True), Row([1] * 4, [0] * 4), Row([1] * 3, [2, 1, 0], True))
+UNITS = {1: [(1,)], 2: [(1, 0), (0, 1)], 3: [(1, 0, 0), (0, 1, 0), (0, 0, 1)]}
 
 
 def some_row(chance, wall=None, most=5, weights=9, size=4, parts=3):
@@ -35,3 +42,40 @@ def gaps_of_many(row, more=()):
     """Gaps for these rows at which no border comes."""
     count = row.gap_count - len(more)
     return [(7 * k * k + 3 * k + 101, 97 + k) for k in range(count)] + list(more)
+
+
+def narrow_row(chance, gaps=None, weights=9, size=4, parts=2):
+    """A row of one to three gaps."""
+    if gaps is None:
+        gaps = chance.choice((1, 2, 2, 3, 3, 3))
+    wall = chance.random() < 0.5
+    count = gaps if wall else gaps + 1
+    speeds = [(chance.randint(-size, size), chance.randint(1, parts)) for _ in range(count)]
+    return Row([chance.randint(1, weights) for _ in range(count)], speeds, wall)
+
+
+def narrow_rows(number, count, **more):
+    """So many narrow rows, of few weights and of many."""
+    chance = Random(number)
+    for _ in range(count):
+        yield narrow_row(chance, weights=chance.choice((1, 3, 9)), **more)
+
+
+def two_gap_rows(number, count):
+    chance = Random(number)
+    for _ in range(count):
+        wall = chance.random() < 0.5
+        balls = 2 if wall else 3
+        speeds = [(chance.randint(-6, 6), chance.randint(1, 3)) for _ in range(balls)]
+        yield Row([chance.randint(1, 9) for _ in range(balls)], speeds, wall)
+
+
+def some_systems(number, count, most=8):
+    """Systems of few small rows, so that zeros, equal rows, unit rows and rows on a common line come up."""
+    chance = Random(number)
+    for _ in range(count):
+        size = chance.randint(1, 3)
+        reach = chance.choice((1, 2, 9))
+        low = chance.choice((-reach, -1))
+        rows = [[chance.randint(low, reach) for _ in range(size)] for _ in range(chance.randint(0, most))]
+        yield Strict(size, rows)

@@ -1,6 +1,7 @@
 """Courses: the balls of a row, followed along a word."""
 
 from untoldgaps.blends import blend_of, clash_pair, nearing_of
+from untoldgaps.ratios import lowest_terms
 
 
 def speed_blends(row):
@@ -40,6 +41,10 @@ class Course:
     def pairs_coming(self):
         """Returns the pairs that come, ascending."""
         return tuple([pair for pair in self.pairs if self.comes(pair)])
+
+    def speeds_now(self):
+        """Returns the speeds behind the clashes so far."""
+        return tuple([lowest_terms(blend[1], blend[0]) for blend in self.blends])
 
     def clash(self, pair):
         """Lets a pair clash, whether it comes or not."""

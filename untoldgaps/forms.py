@@ -11,6 +11,11 @@ def _first_starts(row):
     return [[(1, 1) if pair < ball else (0, 1) for pair in row.pairs] for ball in range(len(row))]
 
 
+def form_course(row):
+    """Returns the course of a row at its begin, in which the gaps are forms."""
+    return Course(row, start_blends(row, _first_starts(row)))
+
+
 def _moment_form(nearing):
     """Returns the form of the moment at which a pair that comes has gap 0."""
     return tuple([lowest_terms(number, nearing[1]) for number in nearing[2:]])
@@ -26,7 +31,7 @@ def _gap_form(nearing, moment):
     ])
 
 
-def _strict_row(ahead, behind):
+def strict_row(ahead, behind):
     """Returns the row that is above 0 exactly if the first of two nearing pairs comes to gap 0 first."""
     numbers = [late * ahead[1] - soon * behind[1] for soon, late in zip(ahead[2:], behind[2:])]
     return without_common(numbers)
@@ -79,7 +84,7 @@ class Draft:
         nearing = course.nearing(pair)
         for other in course.pairs_coming():
             if other != pair:
-                self.rows[_strict_row(nearing, course.nearing(other))] = True
+                self.rows[strict_row(nearing, course.nearing(other))] = True
         self.word.append(pair)
         self.moments.append(_moment_form(nearing))
         course.clash(pair)
@@ -92,7 +97,7 @@ class Draft:
 def forms_of(row, word):
     """Returns the Forms of a word of the row, or raises NotComing."""
     told = check_word(row, word)
-    draft = Draft(Course(row, start_blends(row, _first_starts(row))), (), (), ())
+    draft = Draft(form_course(row), (), (), ())
     for pair in told:
         draft.clash(pair)
     return draft.finished()

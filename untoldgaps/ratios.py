@@ -39,6 +39,23 @@ def told_or_same(thing):
     return ratio_of(thing) if is_ratio(thing) else thing
 
 
+def is_told(thing):
+    """Tells whether anything is a ratio as it is returned: a tuple in lowest terms."""
+    return isinstance(thing, tuple) and is_ratio(thing) and ratio_of(thing) == thing
+
+
+def is_exactly(thing, told):
+    """Tells whether anything is this whole number or this tuple of such, and of tuples of such.
+
+    A boolean stands for no number, a list for no tuple.
+    """
+    if not isinstance(told, tuple):
+        return is_whole(thing) and thing == told
+    if not isinstance(thing, tuple) or len(thing) != len(told):
+        return False
+    return all([is_exactly(part, goal) for part, goal in zip(thing, told)])
+
+
 def is_just(thing, told):
     """Tells whether anything is this very ratio in lowest terms; a boolean in it stands for no number."""
     return is_ratio(thing) and thing == told
