@@ -100,3 +100,26 @@ def world_at(row, gaps, moment):
         if told[2]:
             return None
         world.strike(told[1][0])
+
+
+def claim_is_true(claim, word, speeds):
+    """The claims of [6.1] told a second time, for a word and end speeds."""
+    kind, *parts = claim
+    many = list(word)
+    if kind == "meets":
+        return many.count(parts[0]) > 0
+    if kind == "first":
+        return many[:1] == [parts[0]]
+    if kind in ("count", "times"):
+        count = len(many) if kind == "count" else many.count(parts[0])
+        least, most = parts[-2:]
+        return count >= least and count <= (count if most is None else most)
+    if kind == "speed":
+        speed = fractions(speeds)[parts[0]]
+        low, high = [speed if bound is None else fractions([bound])[0] for bound in parts[1:]]
+        return low <= speed <= high
+    if kind == "ahead":
+        firsts = [many.index(pair) if pair in many else None for pair in parts]
+        return None not in firsts and firsts[0] < firsts[1]
+    held = [claim_is_true(part, word, speeds) for part in parts]
+    return {"not": not held[0], "both": all(held), "either": any(held)}[kind]

@@ -79,3 +79,24 @@ def some_systems(number, count, most=8):
         low = chance.choice((-reach, -1))
         rows = [[chance.randint(low, reach) for _ in range(size)] for _ in range(chance.randint(0, most))]
         yield Strict(size, rows)
+
+
+def some_claim(chance, row, depth=4):
+    """A claim about a row; joined ones down to a depth."""
+    kinds = ["meets", "first", "count", "times", "speed", "ahead"]
+    kind = chance.choice(kinds + ["not", "both", "either"] * 2 if depth else kinds)
+    pair = chance.choice(row.pairs)
+    least, most = chance.randint(0, 4), chance.choice((None, 0, 1, 2, 3, 4))
+    low, high = [chance.choice((None, chance.randint(-4, 4), (chance.randint(-9, 9), 3))) for _ in range(2)]
+    inner = [some_claim(chance, row, depth - 1) if depth else None for _ in range(2)]
+    return (kind,) + {
+        "meets": (pair,),
+        "first": (pair,),
+        "count": (least, most),
+        "times": (pair, least, most),
+        "speed": (chance.randrange(len(row)), low, high),
+        "ahead": (pair, chance.choice(row.pairs)),
+        "not": (inner[0],),
+        "both": tuple(inner),
+        "either": tuple(inner),
+    }[kind]

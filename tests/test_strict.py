@@ -241,7 +241,7 @@ class StrictFaultTest(Case):
     def test_inner(self):
         for gaps in ((3, 1), (5, 2), (10**30, 1)):
             self.assertIsNone(strict_fault(self.STRICT, Inner(gaps)))
-        for gaps in ([3, 1], (6, 2), (3,), (3, 1, 1), (), None, "31", (3, 0), (-3, -1), (3, True), (3.0, 1),
+        for gaps in ([3, 1], (6, 2), (1, 0), (3,), (3, 1, 1), (), None, "31", (3, 0), (-3, -1), (3, True), (3.0, 1),
                      ((3, 1), (1, 1)), (2, 2), (0, 0)):
             self.is_same(strict_fault(self.STRICT, Inner(gaps)), "gaps")
         for gaps in ((2, 1), (1, 1), (1, 5)):

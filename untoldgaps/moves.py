@@ -58,7 +58,7 @@ def _is_ahead(place, others):
     return not others or place < others[-1]
 
 
-def _least_order(word):
+def least_order(word):
     """Returns the least word, as a list, to which exchanges alone lead."""
     queues = {}
     for at in range(len(word) - 1, -1, -1):
@@ -74,7 +74,7 @@ def _least_order(word):
 def reduced_word(word):
     """Returns the least of the shortest words to which moves lead."""
     _, stands = _struck(check_pairs(word, MOST_WORD))
-    return tuple(_least_order(stands))
+    return tuple(least_order(stands))
 
 
 def do_same_by_moves(one, other):
@@ -85,7 +85,7 @@ def do_same_by_moves(one, other):
 def steps_to_reduced(word):
     """Returns strikes and exchanges that lead from a word to its reduced word."""
     steps, stands = _struck(check_pairs(word, MOST_WORD))
-    order = _least_order(stands)
+    order = least_order(stands)
     for at, pair in enumerate(order):
         found = stands.index(pair, at)
         for place in range(found - 1, at - 1, -1):
@@ -113,13 +113,13 @@ def _next_order(stands):
         if pair is not None:
             rest = stands[at:]
             rest.remove(pair)
-            return stands[:at] + [pair] + _least_order(rest)
+            return stands[:at] + [pair] + least_order(rest)
     return None
 
 
 def arrangements(word):
     """Yields all words to which exchanges alone lead, ascending."""
-    order = _least_order(check_pairs(word, MOST_WORD))
+    order = least_order(check_pairs(word, MOST_WORD))
     while order is not None:
         yield tuple(order)
         order = _next_order(order)
