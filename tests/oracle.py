@@ -123,3 +123,70 @@ def claim_is_true(claim, word, speeds):
         return None not in firsts and firsts[0] < firsts[1]
     held = [claim_is_true(part, word, speeds) for part in parts]
     return {"not": not held[0], "both": all(held), "either": any(held)}[kind]
+
+
+class StickWorld:
+    """A sticking run [8.1] told with places: lots as lists of balls that move from one joining to the next one."""
+
+    def __init__(self, row, gaps):
+        self.weights = list(row.weights)
+        self.speeds = fractions(row.speeds)
+        self.moment = Fraction(0)
+        self.lots = [[ball] for ball in range(len(row))]
+        self.places = [Fraction(0)]
+        for gap in fractions(gaps):
+            self.places.append(self.places[-1] + gap)
+        self.joinings = []
+
+    def mean(self, lot):
+        return sum(self.weights[k] * self.speeds[k] for k in lot) / sum(self.weights[k] for k in lot)
+
+    def wait(self, time):
+        for lot in self.lots:
+            mean = self.mean(lot)
+            for ball in lot:
+                self.places[ball] += mean * time
+        self.moment += time
+
+    def next_time(self):
+        """The time from now on to the next joining, or None."""
+        times = []
+        for one, other in zip(self.lots, self.lots[1:]):
+            closing = self.mean(one) - self.mean(other)
+            if closing > 0:
+                times.append((self.places[other[0]] - self.places[one[0]]) / closing)
+        return min(times) if times else None
+
+    def join(self):
+        """Makes one lot of all that are at one place."""
+        lots = []
+        for lot in self.lots:
+            if lots and self.places[lots[-1][0]] == self.places[lot[0]]:
+                lots[-1] = lots[-1] + lot
+            else:
+                lots.append(lot)
+        fresh = [(lot[0], lot[-1]) for lot in lots if lot not in self.lots]
+        self.joinings.append((self.moment, fresh))
+        self.lots = lots
+
+    def follow(self, until=None):
+        """Goes on to a moment, behind its joinings, or to the end."""
+        time = self.next_time()
+        while time is not None and (until is None or self.moment + time <= until):
+            self.wait(time)
+            self.join()
+            time = self.next_time()
+        if until is not None:
+            self.wait(until - self.moment)
+        return self
+
+    def ends(self):
+        return tuple([(lot[0], lot[-1]) for lot in self.lots])
+
+    def join_moments(self):
+        """For each pair the moment of its joining, or None."""
+        told = []
+        for pair in range(len(self.weights) - 1):
+            moments = [moment for moment, lots in self.joinings if any(a <= pair < b for a, b in lots)]
+            told.append(moments[0] if moments else None)
+        return told

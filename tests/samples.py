@@ -100,3 +100,18 @@ def some_claim(chance, row, depth=4):
         "both": tuple(inner),
         "either": tuple(inner),
     }[kind]
+
+
+def stick_row(chance, most=5, least=2, weights=9, size=4, parts=2):
+    """A row without a wall."""
+    count = chance.randint(least, most)
+    speeds = [(chance.randint(-size, size), chance.randint(1, parts)) for _ in range(count)]
+    return Row([chance.randint(1, weights) for _ in range(count)], speeds)
+
+
+def stick_rows(number, count, **more):
+    """So many rows without a wall, of few weights and of many; small numbers bring joinings at one moment."""
+    chance = Random(number)
+    for _ in range(count):
+        small = chance.random() < 0.5
+        yield stick_row(chance, weights=chance.choice((1, 2, 9)), size=2 if small else 6, parts=1 if small else 3, **more)

@@ -18,13 +18,13 @@ _PARTS = {
 _DEEPEST = 4
 
 
-def _parts_of(claim):
+def claim_parts(kinds, claim):
     """Returns what a claim holds behind its word, or raises BadClaim if it is of no kind."""
     if not isinstance(claim, tuple) or len(claim) == 0:
         raise BadClaim("kind")
-    if not isinstance(claim[0], str) or claim[0] not in _PARTS:
+    if not isinstance(claim[0], str) or claim[0] not in kinds:
         raise BadClaim("kind")
-    parts = _PARTS[claim[0]]
+    parts = kinds[claim[0]]
     if len(claim) != len(parts) + 1:
         raise BadClaim("kind")
     return parts
@@ -35,7 +35,7 @@ def _is_number(thing, most):
     return is_whole(thing) and thing >= 0 and (most is None or thing < most)
 
 
-def _check_part(row, part, thing):
+def check_part(row, part, thing):
     """Returns a part of a claim that is no claim itself, a ratio in lowest terms, or raises BadClaim."""
     if part == "pair" and not (is_whole(thing) and thing in row.pairs):
         raise BadClaim("pair")
@@ -54,7 +54,7 @@ def _check_part(row, part, thing):
 
 def _check_within(row, claim, around):
     """Returns a claim inside so many joined claims with its ratios in lowest terms, or raises BadClaim."""
-    parts = _parts_of(claim)
+    parts = claim_parts(dict(_PARTS), claim)
     if "claim" in parts and around >= _DEEPEST:
         raise BadClaim("deep")
     told = [claim[0]]
@@ -62,7 +62,7 @@ def _check_within(row, claim, around):
         if part == "claim":
             told.append(_check_within(row, thing, around + 1))
         else:
-            told.append(_check_part(row, part, thing))
+            told.append(check_part(row, part, thing))
     return tuple(told)
 
 

@@ -211,10 +211,10 @@ class BadStanding(GapError):
 
 
 class NoWall(GapError):
-    """A row has no wall."""
+    """A row has a wall where none may stand."""
 
     def __init__(self):
-        super().__init__("no wall")
+        super().__init__("a wall stands where none may stand")
 
 
 class NoLot(GapError):

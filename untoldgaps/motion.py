@@ -4,7 +4,7 @@ from untoldgaps.courses import Course, start_blends
 from untoldgaps.ratios import lowest_terms, plus
 
 
-def _first_places(row, gaps):
+def first_places(row, gaps):
     """Returns the places of the balls at the begin: the wall or ball 0 stands at 0."""
     places = [] if row.wall else [(0, 1)]
     place = (0, 1)
@@ -18,7 +18,7 @@ class Motion:
     """The balls of a row behind the clashes so far, the pairs of these and their moments."""
 
     def __init__(self, row, gaps):
-        starts = [[place] for place in _first_places(row, gaps)]
+        starts = [[place] for place in first_places(row, gaps)]
         self.course = Course(row, start_blends(row, starts))
         self.struck = []
         self.moments = []

@@ -1,6 +1,6 @@
 """Rows of balls, and the checks of what is passed with a row."""
 
-from untoldgaps.errors import BadGaps, BadMoment, BadRow, NoBall, NoHurry, NoMirror, Wide
+from untoldgaps.errors import BadGaps, BadMoment, BadRow, NoBall, NoHurry, NoMirror, NoWall, Wide
 from untoldgaps.ratios import is_ratio, is_whole, plus, ratio_of, times
 
 MOST_BALLS = 40
@@ -131,3 +131,9 @@ def check_narrow(row):
     """Raises Wide if the row has more than three gaps."""
     if row.gap_count > _WIDEST:
         raise Wide()
+
+
+def check_unwalled(row):
+    """Raises NoWall if the row has a wall."""
+    if row.wall:
+        raise NoWall()
