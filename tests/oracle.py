@@ -1,6 +1,7 @@
 """The rules of the document told a second time, slowly and with Fractions, to compare with."""
 
 from fractions import Fraction
+from math import gcd, lcm
 
 
 def fractions(ratios):
@@ -190,3 +191,125 @@ class StickWorld:
             moments = [moment for moment, lots in self.joinings if any(a <= pair < b for a, b in lots)]
             told.append(moments[0] if moments else None)
         return told
+
+
+def fact_is_true(row, gaps, clashes, fact):
+    """The facts of [9.1] told a second time, for clashes (moment, pair, speeds)."""
+    kind, *parts = fact
+    word = [pair for _, pair, _ in clashes]
+    if kind == "count":
+        return len(word) == parts[0]
+    if kind == "word":
+        return list(parts[0]) == word[:len(parts[0])]
+    if kind == "silent":
+        return word.count(parts[0]) == 0
+    if kind == "gaps":
+        starts = dict(zip(row.pairs, fractions(gaps)))
+        quotient = starts[parts[0]] / starts[parts[1]]
+    else:
+        i, j = parts[:2]
+        if len(word) < j:
+            return False
+        quotient = clashes[j - 1][0] / clashes[i - 1][0]
+    if kind == "exact":
+        return quotient == fractions(parts[2:])[0]
+    low = fractions(parts[2:3])[0]
+    return low < quotient and (parts[3] is None or quotient < fractions(parts[3:])[0])
+
+
+def _eliminated(rows):
+    """Strict rows without their first variable: what follows of them for the others, by sums of two."""
+    above = [row for row in rows if row[0] > 0]
+    below = [row for row in rows if row[0] < 0]
+    left = [row[1:] for row in rows if row[0] == 0]
+    for one in above:
+        for other in below:
+            left.append([a * -other[0] + b * one[0] for a, b in zip(one[1:], other[1:])])
+    return left
+
+
+def _scaled(row):
+    """A row times a number above 0: whole numbers, so that equal conditions are equal rows."""
+    told = [Fraction(number) for number in row]
+    bottom = lcm(*[number.denominator for number in told])
+    wholes = [int(number * bottom) for number in told]
+    common = gcd(*wholes) or 1
+    return tuple([whole // common for whole in wholes])
+
+
+def is_solvable(strict, level):
+    """Whether some numbers make all strict rows greater than 0 and all level rows 0, by elimination."""
+    strict, level = [_scaled(row) for row in strict], [_scaled(row) for row in level]
+    while level:
+        row = level.pop()
+        at = next((at for at, number in enumerate(row) if number), None)
+        if at is not None:
+            # The variable at this place is told by the others.
+            size, sign = abs(row[at]), 1 if row[at] > 0 else -1
+            strict, level = [
+                [_scaled([a * size - b * old[at] * sign for a, b in zip(old, row)]) for old in rows]
+                for rows in (strict, level)
+            ]
+    while strict and strict[0]:
+        strict = [_scaled(row) for row in _eliminated(list(set(strict)))]
+    return not strict
+
+
+def _fact_rows(row, word, moments, fact):
+    """The rows above 0 and the rows at 0 that a fact asks of the gaps of a word, None if it never holds."""
+    kind, *parts = fact
+    if kind == "count":
+        return ([], []) if len(word) == parts[0] else None
+    if kind == "word":
+        return ([], []) if list(word[:len(parts[0])]) == list(parts[0]) else None
+    if kind == "silent":
+        return ([], []) if parts[0] not in word else None
+    if kind == "gaps":
+        late, soon = [[int(pair == other) for other in row.pairs] for pair in parts[:2]]
+    else:
+        if len(word) < parts[1]:
+            return None
+        soon, late = moments[parts[0] - 1], moments[parts[1] - 1]
+    low = fractions(parts[2:3])[0]
+    lead = [a - low * b for a, b in zip(late, soon)]
+    if kind == "exact":
+        return [], [lead]
+    if parts[3] is None:
+        return [lead], []
+    high = fractions(parts[3:])[0]
+    return [lead, [high * b - a for a, b in zip(late, soon)]], []
+
+
+class WordGaps:
+    """The gaps of a word: strict rows that they keep, from forms of its moments, and those that facts add."""
+
+    def __init__(self, row, word, moments):
+        self.row = row
+        self.word = word
+        self.moments = [fractions(form) for form in moments]
+        units = [[int(at == other) for other in range(row.gap_count)] for at in range(row.gap_count)]
+        rising = [[b - a for a, b in zip(one, other)] for one, other in zip(self.moments, self.moments[1:])]
+        self.strict = units + rising
+
+    def fits(self, facts, more=(), level=()):
+        """Whether some gaps fit facts, and further rows."""
+        strict, zero = self.strict + list(more), list(level)
+        for fact in facts:
+            told = _fact_rows(self.row, self.word, self.moments, fact)
+            if told is None:
+                return False
+            strict, zero = strict + told[0], zero + told[1]
+        return is_solvable(strict, zero)
+
+    def fits_without(self, facts, fact):
+        """Whether some gaps fit facts, but not a further one."""
+        told = _fact_rows(self.row, self.word, self.moments, fact)
+        if told is None:
+            return self.fits(facts)
+        for numbers in told[0]:
+            if self.fits(facts, [[-number for number in numbers]]) or self.fits(facts, level=[numbers]):
+                return True
+        for numbers in told[1]:
+            if self.fits(facts, [numbers]) or self.fits(facts, [[-number for number in numbers]]):
+                return True
+        return False

@@ -1,6 +1,9 @@
 """Rows and gaps for tests, drawn by chance from a number."""
 
+from fractions import Fraction
 from random import Random
+
+from oracle import fact_is_true, whole_run
 
 from untoldgaps.rows import Row
 from untoldgaps.strict import Strict
@@ -115,3 +118,60 @@ def stick_rows(number, count, **more):
     for _ in range(count):
         small = chance.random() < 0.5
         yield stick_row(chance, weights=chance.choice((1, 2, 9)), size=2 if small else 6, parts=1 if small else 3, **more)
+
+
+def _near(chance, quotient):
+    """A ratio of 0 or more that may well be the quotient, or one close to it."""
+    shift = chance.choice((0, 0, (1, 3), (-1, 3), 1, 2))
+    told = quotient + Fraction(*shift) if isinstance(shift, tuple) else quotient + shift
+    told = max(told, Fraction(0))
+    return (told.numerator, told.denominator)
+
+
+def some_fact(chance, row, clashes=()):
+    """A fact that may well hold for a run with these clashes (moment, pair, speeds), or for some run of the row."""
+    word = [pair for _, pair, _ in clashes]
+    kinds = ["count", "word", "silent", "between", "exact"] + (["gaps"] if row.gap_count > 1 else [])
+    kind = chance.choice(kinds)
+    if kind == "count":
+        return (kind, max(0, len(word) + chance.choice((0, 0, 0, 1, -1))))
+    if kind == "word":
+        beginning = word[:chance.randint(0, len(word))]
+        return (kind, beginning + [chance.choice(row.pairs)] if chance.random() < 0.3 else beginning)
+    if kind == "silent":
+        return (kind, chance.choice(row.pairs))
+    if kind == "gaps":
+        one, other = chance.sample(row.pairs, 2)
+        quotient = Fraction(chance.randint(0, 4), chance.randint(1, 3))
+    else:
+        one = chance.randint(1, max(1, len(word) - 1))
+        other = one + chance.randint(1, 2)
+        quotient = clashes[other - 1][0] / clashes[one - 1][0] if other <= len(word) else Fraction(3, 2)
+    near = [_near(chance, quotient) for _ in range(2)]
+    if kind == "exact":
+        return (kind, one, other, near[0] if near[0][0] else (1, 2))
+    low, high = sorted(near, key=lambda each: Fraction(*each))
+    if low == high or chance.random() < 0.3:
+        return (kind, one, other, low, None)
+    return (kind, one, other, low, high)
+
+
+def heard_cases(number, count, most=3, true=False, **more):
+    """So many narrow rows, most of many clashes, with facts, and the clashes of a run that most facts fit.
+
+    Of true facts the run fits all.
+    """
+    chance = Random(number)
+    made = 0
+    while made < count:
+        row = narrow_row(chance, weights=chance.choice((1, 3, 9)), **more)
+        if chance.random() < 0.8:
+            row = row.with_speeds(sorted(row.speeds, key=lambda speed: -Fraction(*speed)))
+        gaps = some_gaps(chance, row, 5)
+        clashes, border, _ = whole_run(row, gaps)
+        if border is None:
+            made += 1
+            facts = [some_fact(chance, row, clashes) for _ in range(chance.randint(0, most))]
+            if true:
+                facts = [fact for fact in facts if fact_is_true(row, gaps, clashes, fact)]
+            yield row, facts, clashes

@@ -1,7 +1,9 @@
 """Cones: all gaps of 0 or more at which some rows are 0 or more, told by their corners.
 
 There are one, two or three gaps. All rows and corners are whole numbers without a common divisor.
-The corners of three gaps stand one after another around the cone, always the same way round.
+The corners of three gaps stand one after another around the cone, always the same way round. A cone
+may be flat: then it has fewer corners than gaps. Inside it lie the sums of all its corners, each
+times some ratio above 0.
 """
 
 from untoldgaps.ratios import lowest_terms, without_common
@@ -22,6 +24,22 @@ def _crossing(one, other, here, there):
     return without_common([abs(there) * gap + abs(here) * far for gap, far in zip(one, other)])
 
 
+def _corners_kept(corners, values, most):
+    """Returns the corners at which a row has these values of 0 or more, but not above most unless that is None.
+
+    Where it is 0 between two corners there is a corner, too.
+    """
+    # With two corners both ways round lead over the same crossing, which stays one corner.
+    kept = {}
+    for at, corner in enumerate(corners):
+        after = (at + 1) % len(corners)
+        if values[at] >= 0 and (most is None or values[at] <= most):
+            kept[corner] = True
+        if values[at] * values[after] < 0:
+            kept[_crossing(corner, corners[after], values[at], values[after])] = True
+    return tuple(kept)
+
+
 def cut_cone(corners, numbers):
     """Returns the corners of the part of a cone at which a row is 0 or more, () if it is nowhere above 0."""
     values = [value_at(numbers, corner) for corner in corners]
@@ -29,15 +47,17 @@ def cut_cone(corners, numbers):
         return ()
     if min(values) >= 0:
         return corners
-    # With two gaps both ways round lead over the same crossing, which stays one corner.
-    kept = {}
-    for at, corner in enumerate(corners):
-        after = (at + 1) % len(corners)
-        if values[at] >= 0:
-            kept[corner] = True
-        if values[at] * values[after] < 0:
-            kept[_crossing(corner, corners[after], values[at], values[after])] = True
-    return tuple(kept)
+    return _corners_kept(corners, values, None)
+
+
+def level_cone(corners, numbers):
+    """Returns the corners of the part of a cone at which a row is 0, () if it is 0 nowhere inside the cone."""
+    values = [value_at(numbers, corner) for corner in corners]
+    if min(values) == 0 and max(values) == 0:
+        return corners
+    if min(values) >= 0 or max(values) <= 0:
+        return ()
+    return _corners_kept(corners, values, 0)
 
 
 def cone_of(size, rows):
