@@ -135,6 +135,8 @@ class StandingErrorsTest(Case):
             self.bad("length", [True, None], thing, -1)
         for thing in NO_SEQUENCES + ([], [1] * 41):
             self.bad("length", thing, [1], 1, True)
+        for count, wall in ((0, False), (1, False), (41, False), (0, True), (41, True)):
+            self.bad("length", list(range(1, count + 1)), [0] * count, 1, wall)
         begin_of([1], [1], 0, True)
         begin_of(list(range(40)), [0] * 40, 0)
         begin_of(list(range(1, 41)), [0] * 40, 0, True)

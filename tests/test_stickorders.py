@@ -145,6 +145,9 @@ class FaultTest(Case):
             self.is_same(self.fault(self.ONE, StickOrder((1, 0), (2, thing))), "gaps")
         for pairs in ((), (0,), (0, 0), (0, 1, 2), (-1, 0), (7,)):
             self.is_same(self.fault(StickOrder(pairs, (1, 2))), "gaps")
+        # Over the gaps 1 and 1 both pairs join at moment 1.
+        for pairs in ((0, 0), (0, 1), (0,), (1, 1)):
+            self.is_same(self.fault(StickOrder(pairs, (1, 1))), "gaps")
         # Ahead of an order that is lacking.
         self.is_same(self.fault(StickOrder((1, 0), (1, 2))), "gaps")
 

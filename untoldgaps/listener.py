@@ -1,7 +1,7 @@
 """A listener hears facts one by one and knows at each time what fits them."""
 
-from untoldgaps.errors import BadFact, NotHeard, NotTrue
-from untoldgaps.facts import MOST_FACTS, check_fact
+from untoldgaps.errors import NotHeard, NotTrue
+from untoldgaps.facts import check_fact
 from untoldgaps.heard import decide_heard, fitting_words
 
 
@@ -22,10 +22,8 @@ class Listener:
 
     def hear(self, fact):
         """Adds a fact, or raises NotTrue if no gaps would fit any more."""
-        told = check_fact(self.row, fact)
-        if len(self.facts) >= MOST_FACTS:
-            raise BadFact("facts")
-        facts = self.facts + (told,)
+        facts = self.facts + (check_fact(self.row, fact),)
+        # One fact too many is refused here, too.
         fits = fitting_words(self.row, facts, most=self.most)
         if not fits:
             raise NotTrue(fact)

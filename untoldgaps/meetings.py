@@ -48,9 +48,9 @@ def meetings_of(row):
 
 def _check_meeting(row, meeting):
     """Raises NoMeeting unless the row has the meeting."""
-    if not isinstance(meeting, tuple) or len(meeting) == 0 or not isinstance(meeting[0], str):
+    if not isinstance(meeting, tuple) or not all([is_whole(line) for line in meeting[1:]]):
         raise NoMeeting(meeting)
-    if not all([is_whole(line) for line in meeting[1:]]) or meeting not in meetings_of(row):
+    if meeting not in meetings_of(row):
         raise NoMeeting(meeting)
 
 
