@@ -1,10 +1,9 @@
 """One end or two: whether the gaps have a say in how a row of given weights ends."""
 
 from untoldgaps.closedrows import is_closed, orders_of, roots_of
-from untoldgaps.errors import BadGaps
 from untoldgaps.pushes import speeds_closing
 from untoldgaps.ratios import is_exactly, is_ratio, plus
-from untoldgaps.rows import Row, check_gaps
+from untoldgaps.rows import Row, are_gaps
 from untoldgaps.runs import Border, run_of
 from untoldgaps.stretches import all_stretches
 
@@ -94,15 +93,6 @@ def _are_speeds(row, speeds):
     return all([is_ratio(speed) for speed in speeds])
 
 
-def _are_gaps(row, gaps):
-    """Tells whether anything may be passed as the gaps of a row."""
-    try:
-        check_gaps(row, gaps)
-    except BadGaps:
-        return False
-    return True
-
-
 def _torn_fault(row, result):
     """Returns what is wrong with two ends."""
     orders = orders_of(row)
@@ -110,7 +100,7 @@ def _torn_fault(row, result):
         return "index"
     if not _are_speeds(row, result.speeds):
         return "speeds"
-    if not _are_gaps(row, result.one) or not _are_gaps(row, result.other):
+    if not are_gaps(row, result.one) or not are_gaps(row, result.other):
         return "gaps"
     moving = row.with_speeds(result.speeds)
     runs = [run_of(moving, result.one), run_of(moving, result.other)]

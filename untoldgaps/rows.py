@@ -103,6 +103,15 @@ def check_gaps(row, gaps):
     return told_gaps(gaps)
 
 
+def are_gaps(row, gaps):
+    """Tells whether anything may be passed as the gaps of a row."""
+    try:
+        check_gaps(row, gaps)
+    except BadGaps:
+        return False
+    return True
+
+
 def told_gaps(gaps):
     """Returns any number of gaps as a tuple of ratios, or raises BadGaps."""
     told = []

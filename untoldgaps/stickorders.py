@@ -1,10 +1,10 @@
 """The orders in which pairs join in sticking runs, for all gaps."""
 
 from untoldgaps.cones import cut_cone, middle_of, unit_rows
-from untoldgaps.errors import BadGaps, NoLot
+from untoldgaps.errors import NoLot
 from untoldgaps.ranks import ascending
 from untoldgaps.ratios import is_exactly, is_whole, lowest_row, minus
-from untoldgaps.rows import check_gaps, check_narrow, check_unwalled
+from untoldgaps.rows import are_gaps, check_narrow, check_unwalled
 from untoldgaps.sticking import Weighed, pooled_parting
 from untoldgaps.stickruns import join_moments, lot_form
 
@@ -87,11 +87,7 @@ def _order_with(row, gaps):
 
 def _keeps_order(row, order):
     """Tells whether the gaps of an order lead to it."""
-    try:
-        gaps = check_gaps(row, order.gaps)
-    except BadGaps:
-        return False
-    return _order_with(row, gaps) == order.pairs
+    return are_gaps(row, order.gaps) and _order_with(row, order.gaps) == order.pairs
 
 
 def orders_fault(row, orders):
